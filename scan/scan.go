@@ -54,13 +54,25 @@ func (r *Reader) At() int { return r.at }
 // More: is there more to read?
 func (r *Reader) More() bool { return r.at < len(r.b) }
 
-// Word reads a word that should stand.
-func (r *Reader) Word(s string) {
-	next, is := lex.Is(r.b, r.at, s)
-	if !is {
+// NoMore asks that there is nothing more to read.
+func (r *Reader) NoMore() {
+	if r.More() {
 		r.Stop(r.at, api.ErrForm)
 	}
+}
+
+// Is reads a word, if it stands: does it?
+func (r *Reader) Is(s string) bool {
+	next, is := lex.Is(r.b, r.at, s)
 	r.at = next
+	return is
+}
+
+// Word reads a word that should stand.
+func (r *Reader) Word(s string) {
+	if !r.Is(s) {
+		r.Stop(r.at, api.ErrForm)
+	}
 }
 
 // NumberWord reads a number that should stand, and what should stand behind it, as one word.

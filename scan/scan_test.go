@@ -2,6 +2,7 @@ package scan_test
 
 import (
 	"errors"
+	"strconv"
 	"strings"
 	"testing"
 
@@ -9,9 +10,11 @@ import (
 	"vidimus/scan"
 )
 
-// P6.2, P7.2: each thing that is read: what it is, and the place behind it; else none, and what is wrong, where it begins.
+// P6.2, P7.2, P10.2: each thing that is read: what it is, and the place behind it; else none, and what is wrong, where it begins.
 func TestReads(t *testing.T) {
 	word := func(r *scan.Reader) string { r.Word("ab"); return "ab" }
+	is := func(r *scan.Reader) string { return strconv.FormatBool(r.Is("ab")) }
+	noMore := func(r *scan.Reader) string { r.NoMore(); return "end" }
 	numberWord := func(r *scan.Reader) string { r.NumberWord(12, scan.End); return "12" }
 	oneOf := func(r *scan.Reader) string { return string(r.OneOf("il")) }
 	number := func(r *scan.Reader) string { return strings.Repeat("x", r.Number(9)) }
@@ -26,6 +29,8 @@ func TestReads(t *testing.T) {
 		e    api.Errno
 	}{
 		{"abc", word, "ab", 2, api.OK}, {"ac", word, "", 0, api.ErrForm}, {"a", word, "", 0, api.ErrForm}, {"", word, "", 0, api.ErrForm},
+		{"abc", is, "true", 2, api.OK}, {"ab", is, "true", 2, api.OK}, {"ac", is, "false", 0, api.OK}, {"a", is, "false", 0, api.OK}, {"", is, "false", 0, api.OK},
+		{"", noMore, "end", 0, api.OK}, {"a", noMore, "", 0, api.ErrForm}, {"\n", noMore, "", 0, api.ErrForm},
 		{"12\n", numberWord, "12", 3, api.OK}, {"12", numberWord, "", 0, api.ErrForm}, {"1\n", numberWord, "", 0, api.ErrForm},
 		{"lx", oneOf, "l", 1, api.OK}, {"x", oneOf, "", 0, api.ErrForm}, {"", oneOf, "", 0, api.ErrForm},
 		{"3 ", number, "xxx", 1, api.OK}, {"10", number, "", 0, api.ErrLarge}, {"x", number, "", 0, api.ErrForm}, {"03", number, "", 0, api.ErrForm},
